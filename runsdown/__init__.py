@@ -1,0 +1,1 @@
+"""Runsdown: loops that run, in cloths of every size."""
