@@ -1,6 +1,6 @@
 """What several modules ask of their arguments."""
 
-from runsdown.errors import InvalidLoop, InvalidSize
+from runsdown.errors import InvalidLoop, InvalidLot, InvalidPlace, InvalidSize, InvalidWidth
 
 LONGEST_THREAD = 8
 
@@ -44,7 +44,26 @@ def check_loop(loop, many):
         raise InvalidLoop(loop)
 
 
+def check_lot(lot, many):
+    """Raise InvalidLot unless lot is a list of some of many loops."""
+    index = wrong_number(lot, many)
+    if index is not None:
+        raise InvalidLot(index)
+
+
 def check_size(size):
     """Raise InvalidSize unless size is an integer of at least 1."""
     if not is_integer(size) or size < 1:
         raise InvalidSize(size)
+
+
+def check_row(row, many):
+    """Raise InvalidPlace unless row is the number of one of many rows."""
+    if not is_number(row, many):
+        raise InvalidPlace(row)
+
+
+def check_width(width, least):
+    """Raise InvalidWidth unless width is an integer of at least least."""
+    if not is_integer(width) or width < least:
+        raise InvalidWidth(width)

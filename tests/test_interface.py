@@ -3,9 +3,41 @@
 import inspect
 import unittest
 
-from runsdown import cloths, errors, needles
+from runsdown import charts, cloths, cutting, errors, maps, needles, runs
+from runsdown.charts import Chart
 from runsdown.cloths import Cloth
 from runsdown.needles import needle, work
+
+FUNCTIONS = {
+    runs: {
+        "standing": ("cloth", "cuts"), "run": ("cloth", "cuts"), "way_up": ("cloth", "cuts", "loop"),
+        "run_order": ("cloth", "cuts"), "judge_way": ("cloth", "cuts", "loop", "value"),
+        "judge_order": ("cloth", "cuts", "value"), "taken": ("cloth", "loop"), "taker": ("cloth", "loop"),
+        "takers": ("cloth",), "worst_cut": ("cloth",),
+    },
+    cutting: {
+        "fewest_cuts": ("cloth", "loop"), "cuts_for": ("cloth", "loop"), "ways_for": ("cloth", "loop"),
+        "judge_ways": ("cloth", "loop", "value"), "fewest_for_all": ("cloth", "lot"),
+        "cuts_for_all": ("cloth", "lot"), "ways_for_all": ("cloth", "lot"), "is_run_lot": ("cloth", "lot"),
+        "least_cuts": ("cloth", "lot"), "fits": ("cloth", "stood", "ran"), "least_run": ("cloth", "stood", "ran"),
+        "surely": ("cloth", "stood", "ran"), "shown": ("cloth", "stood", "ran", "loop"), "adds_up": ("cloth",),
+        "joint_cuts": ("cloth",),
+    },
+    charts: {
+        "cloth_at": ("chart", "m", "n"), "loop_at": ("chart", "m", "n", "time", "row", "number"),
+    },
+    maps: {
+        "left_end": ("chart", "row", "number"), "right_end": ("chart", "row", "number"),
+        "below": ("chart", "row", "left", "right"), "ends_at": ("chart", "row", "left", "right", "rows"),
+        "first_child": ("chart", "row", "number"), "last_child": ("chart", "row", "number"),
+        "needed": ("chart", "row", "left", "right", "rows"), "turns": ("chart",),
+    },
+}
+METHODS = {
+    Cloth: ("children", "along", "with_fast", "without_fast", "__add__", "__len__", "__eq__"),
+    Chart: ("wider", "taller", "__add__", "__len__", "__eq__"),
+}
+PROPERTIES = {Cloth: ("loops", "fast", "threads"), Chart: ("width", "rows", "counts")}
 
 POSITIONAL = inspect.Parameter.POSITIONAL_OR_KEYWORD
 BY_NAME = inspect.Parameter.KEYWORD_ONLY
@@ -22,36 +54,50 @@ def plain(*names):
 
 class InterfaceTest(unittest.TestCase):
     def test_defined_where_listed(self):
-        for module, names in ((errors, ["RunError"]), (cloths, ["Cloth"]), (needles, ["work", "needle"])):
+        listed = [(errors, "RunError"), (cloths, "Cloth"), (needles, "work"), (needles, "needle"), (charts, "Chart")]
+        for module, name in listed + [(module, name) for module, names in FUNCTIONS.items() for name in names]:
+            with self.subTest(name):
+                self.assertEqual(getattr(module, name).__module__, module.__name__)
+
+    def test_methods_stand_in_their_class(self):
+        for one, names in METHODS.items():
             for name in names:
                 with self.subTest(name):
-                    self.assertEqual(getattr(module, name).__module__, module.__name__)
+                    self.assertTrue(inspect.isfunction(vars(one)[name]))
+        for one, names in PROPERTIES.items():
+            for name in names:
+                with self.subTest(name):
+                    self.assertIsInstance(vars(one)[name], property)
 
-    def test_methods_of_cloth_stand_in_it(self):
-        for name in ("children", "along", "with_fast", "without_fast", "__add__", "__len__", "__eq__"):
-            with self.subTest(name):
-                self.assertTrue(inspect.isfunction(vars(Cloth)[name]))
-        for name in ("loops", "fast", "threads"):
-            with self.subTest(name):
-                self.assertIsInstance(vars(Cloth)[name], property)
+    def test_arguments_of_functions(self):
+        for module, names in FUNCTIONS.items():
+            for name, parameters in names.items():
+                with self.subTest(name):
+                    self.assertEqual(told(getattr(module, name)), plain(*parameters))
+        self.assertEqual(told(needle), plain("thread", "width", "rows"))
+        self.assertEqual(told(work), plain("thread", "width", "rows") + [("bound", BY_NAME, True)])
 
-    def test_arguments(self):
+    def test_arguments_of_classes(self):
         cloth = Cloth([], [])
         self.assertEqual(told(Cloth), plain("loops", "fast"))
         self.assertEqual(told(cloth.children), plain("loop"))
         self.assertEqual(told(cloth.along), plain("thread"))
         self.assertEqual(told(cloth.with_fast), plain("loop"))
         self.assertEqual(told(cloth.without_fast), plain("loop"))
-        self.assertEqual(told(needle), plain("thread", "width", "rows"))
-        self.assertEqual(told(work), plain("thread", "width", "rows") + [("bound", BY_NAME, True)])
+        chart = Chart(1, [("a", 0, ((1, 1),))])
+        self.assertEqual(told(Chart), plain("width", "rows"))
+        self.assertEqual(told(chart.wider), plain("times"))
+        self.assertEqual(told(chart.taller), plain("times"))
 
     def test_properties_cannot_be_assigned(self):
-        cloth = Cloth([("a", ())], [0])
-        for name in ("loops", "fast", "threads"):
-            with self.subTest(name):
-                with self.assertRaises(AttributeError):
-                    setattr(cloth, name, [])
+        cloth, chart = Cloth([("a", ())], [0]), Chart(1, [("a", 0, ((1, 1),))])
+        for one in (cloth, chart):
+            for name in PROPERTIES[one.__class__]:
+                with self.subTest(name):
+                    with self.assertRaises(AttributeError):
+                        setattr(one, name, [])
         self.assertEqual((cloth.loops, cloth.fast, cloth.threads), ([("a", ())], [0], ["a"]))
+        self.assertEqual((chart.width, chart.rows, chart.counts), (1, [("a", 0, ((1, 1),))], [1, 1]))
 
 
 if __name__ == "__main__":
