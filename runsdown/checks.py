@@ -67,3 +67,17 @@ def check_width(width, least):
     """Raise InvalidWidth unless width is an integer of at least least."""
     if not is_integer(width) or width < least:
         raise InvalidWidth(width)
+
+
+def is_place(value, counts):
+    """Tell whether any value is a place of a chart with these counts."""
+    if not isinstance(value, tuple) or len(value) != 2:
+        return False
+    row, cell = value
+    return is_number(row, len(counts) - 1) and is_number(cell, counts[row + 1])
+
+
+def check_place(row, cell, counts):
+    """Raise InvalidPlace unless row and cell make a place of a chart with these counts."""
+    if not is_place((row, cell), counts):
+        raise InvalidPlace((row, cell))

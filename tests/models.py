@@ -113,3 +113,34 @@ def worked(chart, row, first, last):
             found.append((list(range(take, take + many)), list(range(draw, draw + drawn))))
             take, draw = take + many, draw + drawn
     return found
+
+
+def steady_stitches(rng, count):
+    """Stitches that take count loops, most of them one each, and draw about as many."""
+    stitches, left = [], count
+    while left > 0:
+        stitch = rng.choice([(1, 1)] * 12 + [(2, 1), (1, 2)] * 2 + [(2, 2), (0, 1), (3, rng.randint(1, 3))])
+        if stitch[0] <= left:
+            stitches.append(stitch)
+            left -= stitch[0]
+    return tuple(stitches)
+
+
+def steady_charts(seed, many, widest=8, highest=6):
+    """So many charts, in which runs are long and ways up meet late."""
+    rng = random.Random(seed)
+    while many > 0:
+        width, height = rng.randint(1, widest), rng.randint(1, highest)
+        rows, counts = [], [width]
+        for _ in range(height):
+            stitches = steady_stitches(rng, counts[-1])
+            rows.append(("a", rng.randrange(counts[-1]), stitches))
+            counts.append(sum(drawn for _, drawn in stitches))
+        if counts[-1] == width and max(counts) <= widest:
+            many -= 1
+            yield Chart(width, rows)
+
+
+def places_of(chart):
+    """All places of a chart, ascending."""
+    return [(row, cell) for row in range(len(chart)) for cell in range(chart.counts[row + 1])]

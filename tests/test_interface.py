@@ -3,7 +3,7 @@
 import inspect
 import unittest
 
-from runsdown import charts, cloths, cutting, errors, maps, needles, runs
+from runsdown import bands, charts, cloths, cutting, errors, heights, maps, needles, pins, runs, tears
 from runsdown.charts import Chart
 from runsdown.cloths import Cloth
 from runsdown.needles import needle, work
@@ -31,6 +31,27 @@ FUNCTIONS = {
         "below": ("chart", "row", "left", "right"), "ends_at": ("chart", "row", "left", "right", "rows"),
         "first_child": ("chart", "row", "number"), "last_child": ("chart", "row", "number"),
         "needed": ("chart", "row", "left", "right", "rows"), "turns": ("chart",),
+    },
+    tears: {
+        "depth": ("chart", "row", "cell", "width"), "depth_form": ("chart", "row", "cell"),
+        "held_width": ("chart", "row", "cell"), "last_loops": ("chart", "row", "cell", "width"),
+        "loops_run": ("chart", "row", "cell", "width", "rows"), "least_width": ("chart", "row", "cell", "rows"),
+        "greatest_depth": ("chart", "width"), "worst_place": ("chart", "width"),
+        "same_depths": ("one", "other"), "unlike_depth": ("one", "other"),
+    },
+    bands: {
+        "tears_behind": ("chart", "row", "left", "right", "rows"),
+        "longest_behind": ("chart", "row", "left", "right"), "least_needed": ("chart", "row", "left", "right"),
+    },
+    heights: {
+        "hold": ("chart", "row", "cell", "rows"), "hold_drops": ("chart", "row", "cell"),
+        "hold_for_ever": ("chart", "row", "cell"), "hold_cuts": ("chart", "row", "cell", "rows"),
+        "hold_ways": ("chart", "row", "cell", "rows"),
+    },
+    pins: {
+        "lot_below": ("chart", "pins", "row", "numbers"),
+        "pinned_depth": ("chart", "pins", "row", "cell", "width"), "is_safe": ("chart", "pins"),
+        "unsafe_tear": ("chart", "pins"), "least_pins": ("chart", "most"),
     },
 }
 METHODS = {
