@@ -3,9 +3,12 @@
 import inspect
 import unittest
 
-from runsdown import bands, charts, cloths, cutting, errors, heights, maps, needles, pins, runs, tears
+from runsdown import (
+    bands, charts, cloths, console, cutting, errors, heights, live, maps, needles, pins, pulls, runs, tears, texts)
 from runsdown.charts import Chart
 from runsdown.cloths import Cloth
+from runsdown.console import Console
+from runsdown.live import GuardedCloth, LiveCloth
 from runsdown.needles import needle, work
 
 FUNCTIONS = {
@@ -53,12 +56,26 @@ FUNCTIONS = {
         "pinned_depth": ("chart", "pins", "row", "cell", "width"), "is_safe": ("chart", "pins"),
         "unsafe_tear": ("chart", "pins"), "least_pins": ("chart", "most"),
     },
+    pulls: {
+        "pieces": ("cloth", "cuts"), "comes_out": ("cloth", "cuts", "ends"), "pull_order": ("cloth", "cuts", "ends"),
+        "judge_pulls": ("cloth", "cuts", "ends", "value"), "out_ahead": ("cloth", "cuts", "ends", "loop"),
+        "needless_ends": ("cloth", "cuts", "ends"),
+    },
+    texts: {
+        "write_cloth": ("cloth",), "read_cloth": ("text",), "write_chart": ("chart",), "read_chart": ("text",),
+    },
 }
 METHODS = {
     Cloth: ("children", "along", "with_fast", "without_fast", "__add__", "__len__", "__eq__"),
     Chart: ("wider", "taller", "__add__", "__len__", "__eq__"),
+    LiveCloth: ("row", "bind", "cut", "pin", "unpin", "undo", "twin", "__len__", "__eq__"),
+    GuardedCloth: ("twin", "__eq__"),
+    Console: ("execute",),
 }
-PROPERTIES = {Cloth: ("loops", "fast", "threads"), Chart: ("width", "rows", "counts")}
+PROPERTIES = {
+    Cloth: ("loops", "fast", "threads"), Chart: ("width", "rows", "counts"), LiveCloth: ("cloth", "needle", "gone"),
+    GuardedCloth: ("kept",),
+}
 
 POSITIONAL = inspect.Parameter.POSITIONAL_OR_KEYWORD
 BY_NAME = inspect.Parameter.KEYWORD_ONLY
@@ -75,7 +92,9 @@ def plain(*names):
 
 class InterfaceTest(unittest.TestCase):
     def test_defined_where_listed(self):
-        listed = [(errors, "RunError"), (cloths, "Cloth"), (needles, "work"), (needles, "needle"), (charts, "Chart")]
+        listed = [
+            (errors, "RunError"), (cloths, "Cloth"), (needles, "work"), (needles, "needle"), (charts, "Chart"),
+            (live, "LiveCloth"), (live, "GuardedCloth"), (console, "Console")]
         for module, name in listed + [(module, name) for module, names in FUNCTIONS.items() for name in names]:
             with self.subTest(name):
                 self.assertEqual(getattr(module, name).__module__, module.__name__)
@@ -109,10 +128,21 @@ class InterfaceTest(unittest.TestCase):
         self.assertEqual(told(Chart), plain("width", "rows"))
         self.assertEqual(told(chart.wider), plain("times"))
         self.assertEqual(told(chart.taller), plain("times"))
+        self.assertEqual(told(LiveCloth), plain("thread", "width"))
+        self.assertEqual(told(GuardedCloth), plain("thread", "width") + [("kept", BY_NAME, inspect.Parameter.empty)])
+        self.assertEqual(GuardedCloth.__bases__, (LiveCloth,))
+        for one in (LiveCloth("a", 1), GuardedCloth("a", 1, kept=())):
+            self.assertEqual(told(one.row), plain("thread", "stitches"))
+            for deed in (one.cut, one.pin, one.unpin):
+                self.assertEqual(told(deed), plain("loop"))
+            for deed in (one.bind, one.undo, one.twin):
+                self.assertEqual(told(deed), [])
+        self.assertEqual(told(Console), plain("thread", "width"))
+        self.assertEqual(told(Console("a", 1).execute), plain("order"))
 
     def test_properties_cannot_be_assigned(self):
         cloth, chart = Cloth([("a", ())], [0]), Chart(1, [("a", 0, ((1, 1),))])
-        for one in (cloth, chart):
+        for one in (cloth, chart, LiveCloth("a", 1), GuardedCloth("a", 1, kept=("a",))):
             for name in PROPERTIES[one.__class__]:
                 with self.subTest(name):
                     with self.assertRaises(AttributeError):

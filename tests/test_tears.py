@@ -217,7 +217,8 @@ class LoopsRunTest(unittest.TestCase):
         for many in (10 ** 5, 10 ** 20, 10 ** 25):
             # Pairs: many of them in the first row, one less in each next one.
             self.assertEqual(loops_run(STAR, 0, 0, 2 * many, 10 ** 29), many * (many + 1))
-            self.assertEqual(loops_run(STAR, 0, 0, 2 * many, many // 2), many * (many + 1) - many // 2 * (many // 2 + 1))
+            half = many // 2
+            self.assertEqual(loops_run(STAR, 0, 0, 2 * many, half), many * (many + 1) - half * (half + 1))
             self.assertEqual(loops_run(LEAN, 0, 0, 3 * many, many), 3 * many * many)
 
     def test_great_rows_part_by_part(self):
