@@ -41,23 +41,6 @@ def go_up(tables, row, low, inner, high):
     return bottom, list(found), top
 
 
-def view(row, count, low, inner, high):
-    """Return what decides how a third way goes on from a row; None if it can for ever.
-
-    Count is that of the loops in a repeat of the row.
-    """
-    # A way that is a repeat away from both the outer ones never meets them.
-    if any([low + count <= number <= high - count for number in inner]):
-        return None
-    if high - low < 2 * count:
-        return row, low % count, high - low, tuple([number - low for number in inner])
-    # So far apart, the outer ways stay so, and each has loops beside it that
-    # go on by themselves.
-    lows = tuple([number - low for number in inner if number < low + count])
-    highs = tuple([high - number for number in inner if number > high - count])
-    return row, low % count, high % count, lows, highs
-
-
 def third_ends(chart, row, cell):
     """Return the least rows above for which a loop has no three ways up.
 
@@ -68,8 +51,12 @@ def third_ends(chart, row, cell):
     inner, rows, row = list(range(low + 1, high)), 1, (row + 1) % len(tables)
     seen = set()
     while inner:
-        now = view(row, len(tables[row]), low, inner, high)
-        if now is None or now in seen:
+        count = len(tables[row])
+        now = (row, low % count, high - low, tuple([number - low for number in inner]))
+        # From low over the inner loops to high, no step is ever wider than a
+        # repeat. So if these two are three repeats apart, an inner loop is a
+        # repeat away from both, and then a way from it never meets them.
+        if now in seen or high - low >= 3 * count:
             return None
         seen.add(now)
         low, inner, high = go_up(tables, row, low, inner, high)

@@ -28,7 +28,7 @@ def go_down(chart, pins, row, numbers):
     for repeat in sorted({number // behind for number in numbers}):
         for low, high, new, last in spans(chart, row):
             if all([child + repeat * behind in ran for child in range(new, last + 1)]):
-                found.extend(range(low + repeat * ahead, high + repeat * ahead + 1))
+                found.extend(list(range(low + repeat * ahead, high + repeat * ahead + 1)))
     return [number for number in found if (under, number % ahead) not in pins]
 
 
@@ -87,11 +87,11 @@ def is_safe(chart, pins):
 def unsafe_tear(chart, pins):
     """Return (width, row, cell) of the least tear that runs for ever, None if there is none."""
     check_pins(pins, chart.counts)
-    if holds(chart, pins):
-        return None
-    for width in range(1, max(chart.counts) + 1):
+    # Each run that goes on for ever comes to the row with the fewest loops,
+    # so the least such tear is no wider than a repeat of it.
+    for width in range(1, min(chart.counts) + 1):
         for row, cell in places(chart):
-            if width <= chart.counts[row + 1] and runs_on(chart, pins, row, cell, width):
+            if runs_on(chart, pins, row, cell, width):
                 return width, row, cell
     return None
 

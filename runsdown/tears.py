@@ -121,11 +121,12 @@ def widths_for(chart, row, cell, most):
 def depths_below(widths, least):
     """Return the depths of the tears of the widths 1, 2 and so on, all less than least.
 
-    Widths tells the least widths for the depths 0, 1 and so on.
+    Widths tells the least widths for the depths 0, 1 and so on, the last
+    one of them at least least.
     """
     depths, reached = [], 0
     for width in range(1, least):
-        while reached + 1 < len(widths) and widths[reached + 1] <= width:
+        while widths[reached + 1] <= width:
             reached = reached + 1
         depths.append(reached)
     return depths
@@ -171,15 +172,13 @@ def depth_form(chart, row, cell):
     return depths_below(widths, held + 1), 0, 0
 
 
-def told_depth(form, width):
-    """Return the depth that a form tells for a width, None if it never ends."""
+def told_depths(form, most):
+    """Return the depths that a form tells for the widths 1, 2 and so on to most."""
     depths, every, more = form
-    if width <= len(depths):
-        return depths[width - 1]
-    if every == 0:
-        return None
-    times = (width - len(depths) + every - 1) // every
-    return depths[width - times * every - 1] + times * more
+    depths = list(depths)
+    while len(depths) < most:
+        depths.append(depths[-every] + more if every > 0 else None)
+    return depths[:most]
 
 
 def round_sums(chart, row, step):
@@ -268,13 +267,13 @@ def worst_place(chart, width):
 
 def unlike_width(form, other):
     """Return the least width for which two forms tell unlike depths, None if there is none."""
-    if form == other:
-        return None
-    # Unlike forms tell unlike depths, and soon: they go by repeats.
-    width = 1
-    while told_depth(form, width) == told_depth(other, width):
-        width = width + 1
-    return width
+    # Behind the depths that both list they go by repeats, and those that are
+    # alike for as many widths as both repeats have are alike for ever.
+    most = 2 * (len(form[0]) + len(other[0]) + 1)
+    for width, (one, two) in enumerate(zip(told_depths(form, most), told_depths(other, most)), start=1):
+        if one != two:
+            return width
+    return None
 
 
 def unlike_depth(one, other):

@@ -9,7 +9,7 @@ from runsdown.errors import InvalidPlace, InvalidWidth
 from runsdown.maps import ends_at, left_end, needed, right_end, turns
 from tests.cases import Case
 from tests.models import drawn_charts, steady_charts
-from tests.test_tears import BAND, LATE, LEAN, SOME, STAR
+from tests.test_tears import BAND, LATE, LEAN, SLOW, SLOWER, SOME, STAR
 from tests.values import NO_INTEGERS
 
 FAR = 10 ** 20
@@ -17,7 +17,7 @@ STILL = Chart(2, [("a", 0, ((1, 1), (1, 1)))])
 
 
 def charts(seed, many):
-    return [LEAN, STAR, SOME, BAND, LATE, STILL] + list(drawn_charts(seed, many)) + list(steady_charts(seed, many))
+    return [LEAN, STAR, SOME, BAND, LATE, SLOW, SLOWER, STILL] + list(drawn_charts(seed, many)) + list(steady_charts(seed, many))
 
 
 def down(chart, row, number, rows, end):
@@ -112,6 +112,10 @@ class LongestBehindTest(unittest.TestCase):
         self.assertIsNone(longest_behind(STAR, 0, 1, 2))
         self.assertEqual(longest_behind(STAR, 0, 0, 2), 0)
 
+    def test_ways_that_meet_late(self):
+        self.assertEqual(longest_behind(SLOW, 0, 1, 1), 19)
+        self.assertEqual(longest_behind(SLOWER, 0, 6, 6), 41)
+
     def test_against_many_rows(self):
         kinds = set()
         for chart in charts(104, 80):
@@ -140,6 +144,10 @@ class LeastNeededTest(unittest.TestCase):
         self.assertEqual(least_needed(LEAN, 0, 1, 2), (1, 1))
         self.assertEqual(least_needed(STILL, 0, 3, 12), (10, 1))
         self.assertEqual(least_needed(STAR, 0, 0, 10 ** 20), (10 ** 20 + 2, 1))
+
+    def test_least_widths_that_come_late(self):
+        self.assertEqual(least_needed(Chart(6, [("a", 5, SLOW.rows[0][2])] + SLOW.rows[1:]), 3, 2, 5)[1], 17)
+        self.assertEqual(least_needed(SLOWER, 0, 7, 10)[1], 36)
 
     def check(self, chart, row, left, right, most):
         widths = []

@@ -9,7 +9,7 @@ from runsdown.maps import turns
 from runsdown.tears import depth, depth_form, held_width, same_depths, unlike_depth
 from tests.cases import Case
 from tests.models import drawn_charts, places_of, steady_charts
-from tests.test_tears import BAND, LATE, LEAN, SOME, STAR, depth_by_rows
+from tests.test_tears import BAND, LATE, LEAN, SLOW, SOME, STAR, depth_by_rows
 from tests.values import NO_INTEGERS
 
 # One loop that stays where it is, and one that goes round.
@@ -17,7 +17,8 @@ STILL, ROUND = Chart(2, [("a", 0, ((1, 1), (1, 1)))]), Chart(2, [("a", 1, ((1, 1
 
 
 def charts(seed, many):
-    return [LEAN, STAR, SOME, BAND, LATE] + list(drawn_charts(seed, many, 6, 4)) + list(steady_charts(seed, many, 6, 4))
+    return [LEAN, STAR, SOME, BAND, LATE, SLOW] + list(
+        drawn_charts(seed, many, 6, 4)) + list(steady_charts(seed, many, 6, 4))
 
 
 def told(form, width):
@@ -161,6 +162,22 @@ class UnlikeTest(unittest.TestCase):
         self.assertEqual(self.check(one, Chart(5, [("a", 0, one.rows[0][2]), one.rows[1]])), (5, 0, 1))
         self.check(LATE, Chart(6, [LATE.rows[0], ("a", 3, ((1, 1),) * 6)]))
         self.check(LATE, Chart(6, [("a", 0, ((1, 1), (1, 2), (1, 1), (2, 1), (1, 1))), LATE.rows[1]]))
+
+
+    def test_unlike_everies(self):
+        # Forms that go by unlike numbers of loops, told apart behind the fewer depths.
+        pairs = (
+            (Chart(4, [("a", 2, ((1, 2), (3, 2)))]), Chart(4, [("a", 3, ((2, 2), (2, 2)))])),
+            (Chart(5, [("a", 4, ((1, 1), (1, 1), (2, 1), (1, 1))), ("a", 0, ((1, 1), (1, 1), (1, 2), (1, 1)))]),
+             Chart(5, [("a", 4, ((1, 1), (2, 1), (1, 1), (1, 1))), ("a", 3, ((2, 2), (1, 2), (1, 1)))])),
+            (Chart(4, [("a", 0, ((3, 3), (1, 1))), ("a", 2, ((1, 1), (2, 1), (0, 1), (1, 1)))]),
+             Chart(4, [("a", 1, ((3, 2), (1, 2))), ("a", 3, ((2, 1), (1, 1), (1, 2)))])),
+        )
+        self.assertEqual(depth_form(pairs[1][0], 0, 3), ([1], 1, 2))
+        self.assertEqual(depth_form(pairs[1][1], 0, 3), ([1, 3, 9], 2, 6))
+        for one, other in pairs:
+            self.check(one, other)
+            self.check(other, one)
 
 
 class ErrorsTest(Case):

@@ -24,10 +24,13 @@ SOME = Chart(3, [
 BAND = Chart(4, [("a", 1, ((1, 2), (1, 1), (2, 1))), ("a", 1, ((1, 1), (1, 1), (1, 1), (1, 1)))])
 # Left ends turn by 1/3, right ones by 1/4: a great width ends late.
 LATE = Chart(6, [("a", 0, ((1, 1), (1, 1), (1, 2), (2, 1), (1, 1))), ("a", 2, ((1, 1),) * 6)])
+# Runs go round before they end, one loop each time, in charts of 4 and 6 rows.
+SLOW = Chart(6, [("a", 1, ((1, 2), (2, 1), (1, 1), (1, 1), (1, 1)))] + [("a", 0, ((1, 1),) * 6)] * 3)
+SLOWER = Chart(8, [("a", 7, ((1, 1),) * 5 + ((2, 1), (1, 2)))] + [("a", 0, ((1, 1),) * 8)] * 5)
 
 
 def charts(seed, many):
-    return [LEAN, STAR, SOME, BAND, LATE] + list(drawn_charts(seed, many)) + list(steady_charts(seed, many))
+    return [LEAN, STAR, SOME, BAND, LATE, SLOW, SLOWER] + list(drawn_charts(seed, many)) + list(steady_charts(seed, many))
 
 
 def run_down(chart, row, cell, width):
@@ -111,6 +114,11 @@ class DepthTest(unittest.TestCase):
             self.assertIsNone(depth(LEAN, 0, 0, 2 + repeats))
             # Six rounds of left ends are two repeats, twelve of right ends three.
             self.assertEqual(depth(LATE, 0, 0, 6 * repeats + 6) - depth(LATE, 0, 0, 6 * repeats), 24)
+
+    def test_ends_that_come_late(self):
+        self.assertEqual([depth(SLOW, 3, 3, width) for width in (5, 6)], [19, None])
+        self.assertEqual([depth(SLOWER, 5, 6, width) for width in (7, 8)], [41, None])
+        self.assertEqual([held_width(SLOW, 3, 3), held_width(SLOWER, 5, 6)], [5, 7])
 
     def test_great_widths_by_the_rows_below(self):
         # Loops run in the last one of so many rows, and in no further one.
