@@ -30,6 +30,8 @@ class LiveCloth:
         self._lost = []
         # For each deed its word, and what the lists were ahead of it.
         self._past = []
+        # None tells this cloth from a guarded one, even if that keeps no thread.
+        self._kept = None
 
     @property
     def cloth(self):
@@ -129,7 +131,8 @@ class LiveCloth:
 
     def __eq__(self, other):
         return (
-            type(other) is LiveCloth and self._loops == other._loops and self._tied == other._tied
+            isinstance(other, LiveCloth) and self._kept == other._kept
+            and self._loops == other._loops and self._tied == other._tied
             and self._held == other._held and self._lost == other._lost)
 
 
@@ -159,6 +162,6 @@ class GuardedCloth(LiveCloth):
 
     def __eq__(self, other):
         return (
-            type(other) is GuardedCloth and self._kept == other._kept
+            isinstance(other, GuardedCloth) and self._kept == other._kept
             and self._loops == other._loops and self._tied == other._tied
             and self._held == other._held and self._lost == other._lost)
